@@ -1,0 +1,143 @@
+"""Points 0 to 4: what holds of all that is there."""
+
+import copy
+import importlib
+import inspect
+import pkgutil
+import unittest
+
+import uprightletters
+from tests.samples import crossing_rows, g, many_rows, odd_values, ring_rows, rows_of, s
+from uprightletters import errors, talks, upright
+from uprightletters.errors import BadDoing, BadNumber, BadTalk
+from uprightletters.talks import Talk, clock, drawn, is_ahead
+from uprightletters.upright import crown, is_paper, is_upright, moments, paper
+
+PARAMETERS = {
+    "talks": {"Talk": ["rows"], "is_ahead": ["talk", "one", "other"], "clock": ["talk", "doing"],
+              "drawn": ["hands", "pairs"]},
+    "upright": {"is_upright": ["talk"], "moments": ["talk"], "crown": ["talk"], "paper": ["talk"],
+                "is_paper": ["talk", "value"]}}
+
+
+class TestInterface(unittest.TestCase):
+
+    def test_parameter_names(self):
+        for file, functions in PARAMETERS.items():
+            module = importlib.import_module("uprightletters." + file)
+            for name, wanted in functions.items():
+                with self.subTest(name):
+                    function = getattr(module, name)
+                    self.assertEqual(list(inspect.signature(function).parameters), wanted)
+                    self.assertEqual(function.__module__, "uprightletters." + file)
+
+    def test_arguments_by_name_in_another_order(self):
+        talk = Talk(rows=[[s(0)], [g(0)]])
+        self.assertEqual(drawn(pairs=[(0, 1)], hands=2), talk)
+        self.assertIs(is_ahead(other=g(0), one=s(0), talk=talk), True)
+        self.assertIs(is_ahead(one=g(0), talk=talk, other=s(0)), False)
+        self.assertEqual(clock(doing=g(0), talk=talk), (1, 1))
+        self.assertEqual((talk.sender(letter=0), talk.getter(letter=0)), (0, 1))
+        self.assertIs(is_upright(talk=talk), True)
+        self.assertEqual((moments(talk=talk), crown(talk=talk), paper(talk=talk)), ((0,), None, ("moments", (0,))))
+        self.assertIs(is_paper(value=("moments", (0,)), talk=talk), True)
+
+    def test_errors_by_name_in_another_order(self):
+        for call, wanted in ((lambda: drawn(pairs=None, hands=True), BadNumber), (lambda: Talk(rows=None), BadTalk),
+                             (lambda: clock(doing=None, talk=Talk([[]])), BadDoing),
+                             (lambda: Talk([[]]).sender(letter=0), BadNumber),
+                             (lambda: Talk([[]]).getter(letter=0), BadNumber)):
+            with self.assertRaises(wanted):
+                call()
+
+    def test_no_file_of_the_package_fails_to_load(self):
+        for found in pkgutil.iter_modules(uprightletters.__path__):
+            importlib.import_module("uprightletters." + found.name)
+
+
+class TestNothingChanges(unittest.TestCase):
+
+    def calls(self, talk):
+        doings = [doing for row in talk.rows for doing in row]
+        found = [len(talk), talk.many, talk.rows, is_upright(talk), moments(talk), crown(talk), paper(talk)]
+        found += [clock(talk, doing) for doing in doings]
+        found += [is_ahead(talk, one, other) for one in doings for other in doings[::3]]
+        return found + [(talk.sender(letter), talk.getter(letter)) for letter in range(talk.many)]
+
+    def test_equal_calls_return_equal_results(self):
+        for rows in many_rows()[::10]:
+            talk, same = Talk(rows), Talk(copy.deepcopy(rows))
+            first = self.calls(talk)
+            self.assertEqual(first, self.calls(talk))
+            self.assertEqual(first, self.calls(same))
+            self.assertEqual(talk, same)
+
+    def test_what_is_passed_stays_as_it_was(self):
+        for rows in ([[s(0)], [g(0)]], [[s(0), s(0)]], [[], 5], [[s(1)], [g(1)]], ring_rows(6), crossing_rows(6)):
+            before = copy.deepcopy(rows)
+            try:
+                self.calls(Talk(rows))
+            except BadTalk:
+                pass
+            self.assertEqual(rows, before)
+        for hands, pairs in ((2, [(0, 1)]), (2, [(0, 1), (1, 1)]), (0, [(0, 1)]), (2, [[0, 1]])):
+            before = copy.deepcopy(pairs)
+            try:
+                drawn(hands, pairs)
+            except errors.TalkError:
+                pass
+            self.assertEqual(pairs, before)
+        value = ["moments", [0]]
+        is_paper(Talk([[s(0)], [g(0)]]), value)
+        self.assertEqual(value, ["moments", [0]])
+
+    def test_a_talk_stays_as_it_was_after_errors(self):
+        talk = Talk(rows_of("s0 g1 / s1 g0"))
+        before = self.calls(talk)
+        for value in odd_values():
+            for call in (talk.sender, talk.getter, lambda x: clock(talk, x), lambda x: is_ahead(talk, s(0), x),
+                         lambda x: is_ahead(talk, x, s(0))):
+                with self.assertRaises(errors.TalkError):
+                    call(value)
+            self.assertIs(is_paper(talk, value), False)
+        self.assertEqual(self.calls(talk), before)
+        self.assertEqual(talk, Talk(rows_of("s0 g1 / s1 g0")))
+
+    def test_drawn_keeps_its_letters(self):
+        pairs = [(0, 1)]
+        talk = drawn(2, pairs)
+        pairs.append((1, 0))
+        self.assertEqual(talk.rows, ((s(0),), (g(0),)))
+
+
+class TestOperators(unittest.TestCase):
+
+    def test_other_operators_raise_type_error(self):
+        talk = Talk([[s(0)], [g(0)]])
+        for value in (1, "x", None, (), [], talk, Talk([[]])):
+            for call in (lambda: talk + value, lambda: value + talk, lambda: talk - value, lambda: talk * value,
+                         lambda: value * talk, lambda: talk < value, lambda: talk <= value, lambda: talk > value,
+                         lambda: value >= talk, lambda: talk | value, lambda: talk & value, lambda: talk // value,
+                         lambda: talk ** value, lambda: talk << value, lambda: talk % value, lambda: -talk,
+                         lambda: talk[0]):
+                with self.assertRaises(TypeError):
+                    call()
+
+    def test_errors_are_equal_to_nothing_else(self):
+        self.assertFalse(BadTalk(None) == Talk([[]]))
+        self.assertTrue(BadTalk(None) != Talk([[]]))
+
+
+class TestModules(unittest.TestCase):
+
+    def test_numbers_are_integers_of_python(self):
+        self.assertIs(type(talks.MOST_HANDS), int)
+        self.assertIs(type(talks.MOST_LETTERS), int)
+        for many in (0, 5, 12):
+            talk = drawn(3, [(0, 1)] * many)
+            self.assertIs(type(talk.many), int)
+            self.assertTrue(all(type(moment) is int for moment in upright.moments(talk)))
+
+
+if __name__ == "__main__":
+    unittest.main()

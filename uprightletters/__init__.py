@@ -1,0 +1,1 @@
+"""Talks by letters, drawn upright or barred by a crown."""
