@@ -5,11 +5,15 @@ import importlib
 import inspect
 import pkgutil
 import unittest
+from itertools import islice
 
 import uprightletters
 from tests.samples import crossing_rows, g, many_rows, odd_values, ring_rows, rows_of, s
 from uprightletters import errors, talks, upright
-from uprightletters.errors import BadDoing, BadNumber, BadTalk
+from uprightletters.cuts import count_cuts, cut_at, cut_number, cuts, is_cut, joined, met, next_cuts, under_way
+from uprightletters.errors import BadCut, BadDoing, BadNumber, BadRun, BadTalk
+from uprightletters.kinds import breaks, causal_break, is_causal, is_single, kind, single_break
+from uprightletters.runs import count_runs, is_run, run_at, run_number, runs
 from uprightletters.talks import Talk, clock, drawn, is_ahead
 from uprightletters.upright import crown, is_paper, is_upright, moments, paper
 
@@ -17,7 +21,14 @@ PARAMETERS = {
     "talks": {"Talk": ["rows"], "is_ahead": ["talk", "one", "other"], "clock": ["talk", "doing"],
               "drawn": ["hands", "pairs"]},
     "upright": {"is_upright": ["talk"], "moments": ["talk"], "crown": ["talk"], "paper": ["talk"],
-                "is_paper": ["talk", "value"]}}
+                "is_paper": ["talk", "value"]},
+    "kinds": {"breaks": ["talk"], "causal_break": ["talk"], "single_break": ["talk"], "is_causal": ["talk"],
+              "is_single": ["talk"], "kind": ["talk"]},
+    "cuts": {"is_cut": ["talk", "value"], "count_cuts": ["talk"], "cuts": ["talk"], "cut_at": ["talk", "number"],
+             "cut_number": ["talk", "cut"], "under_way": ["talk", "cut"], "next_cuts": ["talk", "cut"],
+             "met": ["talk", "one", "other"], "joined": ["talk", "one", "other"]},
+    "runs": {"is_run": ["talk", "value"], "count_runs": ["talk"], "runs": ["talk"], "run_at": ["talk", "number"],
+             "run_number": ["talk", "run"]}}
 
 
 class TestInterface(unittest.TestCase):
@@ -42,11 +53,37 @@ class TestInterface(unittest.TestCase):
         self.assertEqual((moments(talk=talk), crown(talk=talk), paper(talk=talk)), ((0,), None, ("moments", (0,))))
         self.assertIs(is_paper(value=("moments", (0,)), talk=talk), True)
 
+    def test_arguments_of_kinds_by_name(self):
+        talk = Talk(rows=rows_of("s0 s1 / g1 g0"))
+        self.assertEqual((breaks(talk=talk), causal_break(talk=talk)), ([(0, 1)], (0, 1)))
+        self.assertEqual((single_break(talk=talk), kind(talk=talk)), ((0, 1), "free"))
+        self.assertEqual((is_causal(talk=talk), is_single(talk=talk)), (False, False))
+
+    def test_arguments_of_cuts_and_runs_by_name_in_another_order(self):
+        talk, run = Talk(rows=rows_of("s0 g1 / s1 g0")), (s(1), s(0), g(0), g(1))
+        self.assertIs(is_cut(value=(1, 0), talk=talk), True)
+        self.assertEqual((count_cuts(talk=talk), len(list(cuts(talk=talk)))), (7, 7))
+        self.assertEqual((cut_at(number=2, talk=talk), cut_number(cut=(1, 0), talk=talk)), ((1, 0), 2))
+        self.assertEqual((under_way(cut=(1, 0), talk=talk), next_cuts(cut=(1, 0), talk=talk)), ((0,), ((1, 1),)))
+        self.assertEqual(met(other=(0, 1), one=(1, 0), talk=talk), (0, 0))
+        self.assertEqual(joined(one=(0, 1), other=(1, 0), talk=talk), (1, 1))
+        self.assertIs(is_run(value=run, talk=talk), True)
+        self.assertEqual((count_runs(talk=talk), list(runs(talk=talk))[2]), (4, run))
+        self.assertEqual((run_at(number=2, talk=talk), run_number(run=run, talk=talk)), (run, 2))
+
     def test_errors_by_name_in_another_order(self):
         for call, wanted in ((lambda: drawn(pairs=None, hands=True), BadNumber), (lambda: Talk(rows=None), BadTalk),
                              (lambda: clock(doing=None, talk=Talk([[]])), BadDoing),
                              (lambda: Talk([[]]).sender(letter=0), BadNumber),
-                             (lambda: Talk([[]]).getter(letter=0), BadNumber)):
+                             (lambda: Talk([[]]).getter(letter=0), BadNumber),
+                             (lambda: cut_at(number=1, talk=Talk([[]])), BadNumber),
+                             (lambda: cut_number(cut=[0], talk=Talk([[]])), BadCut),
+                             (lambda: under_way(cut=[0], talk=Talk([[]])), BadCut),
+                             (lambda: next_cuts(cut=[0], talk=Talk([[]])), BadCut),
+                             (lambda: met(other=(0,), one=[0], talk=Talk([[]])), BadCut),
+                             (lambda: joined(other=(0,), one=[0], talk=Talk([[]])), BadCut),
+                             (lambda: run_at(number=1, talk=Talk([[]])), BadNumber),
+                             (lambda: run_number(run=[], talk=Talk([[]])), BadRun)):
             with self.assertRaises(wanted):
                 call()
 
@@ -62,7 +99,20 @@ class TestNothingChanges(unittest.TestCase):
         found = [len(talk), talk.many, talk.rows, is_upright(talk), moments(talk), crown(talk), paper(talk)]
         found += [clock(talk, doing) for doing in doings]
         found += [is_ahead(talk, one, other) for one in doings for other in doings[::3]]
+        found += [breaks(talk), causal_break(talk), single_break(talk), is_causal(talk), is_single(talk), kind(talk)]
+        found += self.calls_of_cuts(talk) + self.calls_of_runs(talk)
         return found + [(talk.sender(letter), talk.getter(letter)) for letter in range(talk.many)]
+
+    def calls_of_cuts(self, talk):
+        many = count_cuts(talk)
+        one, other = cut_at(talk, many // 2), cut_at(talk, many // 3)
+        found = [many, one, other, list(islice(cuts(talk), 50)), cut_number(talk, one), is_cut(talk, one)]
+        return found + [under_way(talk, one), next_cuts(talk, one), met(talk, one, other), joined(talk, one, other)]
+
+    def calls_of_runs(self, talk):
+        many = count_runs(talk)
+        run = run_at(talk, many // 2)
+        return [many, run, list(islice(runs(talk), 50)), run_number(talk, run), is_run(talk, run)]
 
     def test_equal_calls_return_equal_results(self):
         for rows in many_rows()[::10]:
@@ -87,19 +137,27 @@ class TestNothingChanges(unittest.TestCase):
             except errors.TalkError:
                 pass
             self.assertEqual(pairs, before)
-        value = ["moments", [0]]
-        is_paper(Talk([[s(0)], [g(0)]]), value)
-        self.assertEqual(value, ["moments", [0]])
+        talk = Talk([[s(0)], [g(0)]])
+        for function in (is_paper, is_cut, is_run):
+            for value in (["moments", [0]], [0, 0], [s(0), g(0)], (s(0), [0]), (0, [0])):
+                before = copy.deepcopy(value)
+                self.assertIs(function(talk, value), False)
+                self.assertEqual(value, before)
 
     def test_a_talk_stays_as_it_was_after_errors(self):
         talk = Talk(rows_of("s0 g1 / s1 g0"))
         before = self.calls(talk)
         for value in odd_values():
             for call in (talk.sender, talk.getter, lambda x: clock(talk, x), lambda x: is_ahead(talk, s(0), x),
-                         lambda x: is_ahead(talk, x, s(0))):
+                         lambda x: is_ahead(talk, x, s(0)), lambda x: cut_at(talk, x),
+                         lambda x: cut_number(talk, x), lambda x: under_way(talk, x), lambda x: next_cuts(talk, x),
+                         lambda x: met(talk, (1, 1), x), lambda x: joined(talk, x, (1, 1)),
+                         lambda x: run_at(talk, x), lambda x: run_number(talk, x)):
                 with self.assertRaises(errors.TalkError):
                     call(value)
             self.assertIs(is_paper(talk, value), False)
+            self.assertIs(is_cut(talk, value), False)
+            self.assertIs(is_run(talk, value), False)
         self.assertEqual(self.calls(talk), before)
         self.assertEqual(talk, Talk(rows_of("s0 g1 / s1 g0")))
 

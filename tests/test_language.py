@@ -129,6 +129,22 @@ class TestNodes(unittest.TestCase):
                 if isinstance(sign, (ast.Is, ast.IsNot)):
                     self.assertTrue(isinstance(right, ast.Constant) and right.value in (None, True, False), place)
 
+    def test_generators_are_iterated_at_once(self):
+        made = {node.name for place, node in nodes(ast.FunctionDef)
+                if any(isinstance(item, (ast.Yield, ast.YieldFrom)) for item in ast.walk(node))}
+        self.assertEqual(made, {"cuts", "runs"})
+        takers = ("list", "tuple", "sorted", "sum", "min", "max", "any", "all", "enumerate", "zip")
+        taken = [item for place, node in nodes(ast.For, ast.comprehension) for item in [node.iter]]
+        taken += [node.args[0] for place, node in nodes(ast.Call)
+                  if isinstance(node.func, ast.Name) and node.func.id in takers and node.args]
+        for place, node in nodes(ast.Call):
+            if isinstance(node.func, ast.Name) and node.func.id in made:
+                self.assertIn(ast.dump(node), [ast.dump(item) for item in taken], place)
+        called = [node.func for place, node in nodes(ast.Call) if isinstance(node.func, ast.Name)]
+        for place, node in nodes(ast.Name):
+            if node.id in made:
+                self.assertIn((node.lineno, node.id), [(one.lineno, one.id) for one in called], place)
+
     def test_lists_beside_equality(self):
         for place, node in nodes(ast.Call):
             if isinstance(node.func, ast.Name) and node.func.id in ("any", "all", "min", "max", "sum", "sorted"):

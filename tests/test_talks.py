@@ -4,6 +4,7 @@ import unittest
 from collections import namedtuple
 from unittest.mock import ANY
 
+from tests.orders import great_rows
 from tests.samples import (ahead_pairs, crossing_rows, fitting_small_rows, g, is_turning, many_rows, odd_values,
                            ring_rows, rows_of, s, small_rows)
 from uprightletters import talks
@@ -281,7 +282,7 @@ class TestAhead(unittest.TestCase):
                     self.assertIs(is_ahead(talk, doing, doing), False)
 
     def test_all_pairs(self):
-        for rows in many_rows() + fitting_small_rows()[::7]:
+        for rows in many_rows() + great_rows() + fitting_small_rows()[::7]:
             talk = Talk(rows)
             ahead = ahead_pairs(rows)
             doings = [doing for row in rows for doing in row]
@@ -305,7 +306,7 @@ class TestClock(unittest.TestCase):
         self.assertEqual(clock(talk, g(3)), (0, 0, 0, 1, 1))
 
     def test_of_all_doings(self):
-        for rows in many_rows() + fitting_small_rows()[::7]:
+        for rows in many_rows() + great_rows() + fitting_small_rows()[::7]:
             talk = Talk(rows)
             ahead = ahead_pairs(rows)
             for row in rows:

@@ -5,6 +5,7 @@ from itertools import permutations, product
 from unittest.mock import ANY
 
 from tests import samples
+from tests.orders import great_rows
 from tests.samples import crossing_rows, fitting_small_rows, g, many_rows, odd_values, ring_rows, rows_of, s
 from uprightletters.talks import Talk, drawn
 from uprightletters.upright import crown, is_paper, is_upright, moments, paper
@@ -118,6 +119,10 @@ class TestAgainstTheWords(unittest.TestCase):
     def test_small_talks(self):
         for rows in fitting_small_rows():
             self.check(rows)
+
+    def test_talks_of_twelve_letters_and_six_hands(self):
+        sizes = [self.check(rows) for rows in great_rows()]
+        self.assertEqual(set(sizes), {None, 2, 3, 4, 5, 6})
 
     def test_least_of_all_moments(self):
         for rows in fitting_small_rows()[::11]:
