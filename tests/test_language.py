@@ -129,6 +129,11 @@ class TestNodes(unittest.TestCase):
                 if isinstance(sign, (ast.Is, ast.IsNot)):
                     self.assertTrue(isinstance(right, ast.Constant) and right.value in (None, True, False), place)
 
+    def test_dicts_are_copied_by_loops_and_comprehensions(self):
+        for place, node in nodes(ast.Call):
+            called = node.func.attr if isinstance(node.func, ast.Attribute) else getattr(node.func, "id", "")
+            self.assertNotIn(called, ("dict", "copy", "update"), place)
+
     def test_generators_are_iterated_at_once(self):
         made = {node.name for place, node in nodes(ast.FunctionDef)
                 if any(isinstance(item, (ast.Yield, ast.YieldFrom)) for item in ast.walk(node))}

@@ -87,7 +87,9 @@ def found_clocks(rows):
     while before < len(clocks):
         before = len(clocks)
         for hand, row in enumerate(rows):
-            clocks.update(row_clocks(hand, row, len(rows), clocks))
+            found = row_clocks(hand, row, len(rows), clocks)
+            for doing in found:
+                clocks[doing] = found[doing]
     return clocks
 
 
