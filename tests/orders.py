@@ -1,4 +1,4 @@
-"""Slow second opinions on breaks, cuts and runs, by the words of points 14, 40 and 41, and great talks."""
+"""Slow second opinions on breaks, cuts, runs and rooms, by the words of points 14 and 40 to 42, and great talks."""
 
 from itertools import permutations, product
 
@@ -81,6 +81,28 @@ def count_orders(rows):
     return sum(layer.values())
 
 
+def room_count(run):
+    """How many letters are under way at most in a run."""
+    behind = [run[:size] for size in range(len(run) + 1)]
+    return max(len([letter for word, letter in told if word == "send" and g(letter) not in told]) for told in behind)
+
+
+def rooms_by_layers(rows):
+    """The fewest rooms of a run: the least number with which all doings can be done, turn by turn."""
+    doings = [doing for row in rows for doing in row]
+    ahead = ahead_pairs(rows)
+    fronts = {other: {one for one in doings if (one, other) in ahead} for other in doings}
+    for most in range(len(doings) // 2 + 1):
+        layer = {frozenset()}
+        for turn in doings:
+            later = {done | {doing} for done in layer for doing in doings
+                     if doing not in done and fronts[doing] <= done}
+            layer = {done for done in later if sum(1 if word == "send" else -1 for word, letter in done) <= most}
+        if layer:
+            return most
+    return None
+
+
 def one_way_rows(many):
     """Two hands, of which one sends all letters."""
     return [[s(k) for k in range(many)], [g(k) for k in range(many)]]
@@ -119,6 +141,11 @@ def ringed_rows(size):
             rows[5 * letter % 6].append(s(letter))
             rows[(5 * letter + 2) % 6].append(g(letter))
     return rows
+
+
+def middle_rows():
+    """Rows of talks with four letters."""
+    return [random_rows(seed, 2 + seed % 3, 4) for seed in range(24)]
 
 
 def great_rows():

@@ -74,6 +74,15 @@ class TestFiles(unittest.TestCase):
                 for alias in node.names:
                     self.assertRegex(source, rf"(?m)^((def|class) {alias.name}\b|{alias.name} = )", path.name)
 
+    def test_no_two_files_import_from_each_other(self):
+        wanted = {path.stem: [node.module.rpartition(".")[2] for node in tree.body if isinstance(node, ast.ImportFrom)]
+                  for path, tree in trees()}
+        while wanted:
+            ready = [name for name in wanted if not set(wanted[name]) & set(wanted)]
+            self.assertNotEqual(ready, [], wanted)
+            for name in ready:
+                del wanted[name]
+
     def test_module_level(self):
         kinds = (ast.Expr, ast.ImportFrom, ast.FunctionDef, ast.ClassDef, ast.Assign)
         for path, tree in trees():
@@ -105,6 +114,23 @@ class TestNames(unittest.TestCase):
             if isinstance(node.func, ast.Attribute):
                 self.assertIn(node.func.attr, own | set(METHODS), place)
 
+    def test_names_of_classes_and_imports_mean_nothing_else(self):
+        for path, tree in trees():
+            taken = {alias.name for node in tree.body if isinstance(node, ast.ImportFrom) for alias in node.names}
+            taken |= {node.name for node in tree.body if isinstance(node, ast.ClassDef)}
+            names = [node for node in ast.walk(tree) if isinstance(node, (ast.Name, ast.arg))]
+            bound = {node.arg if isinstance(node, ast.arg) else node.id for node in names
+                     if isinstance(node, ast.arg) or isinstance(node.ctx, ast.Store)}
+            self.assertEqual(taken & bound, set(), path.name)
+
+    def test_methods_and_attributes_have_other_names(self):
+        own = {item.name for place, node in nodes(ast.ClassDef) for item in node.body
+               if isinstance(item, ast.FunctionDef)}
+        assigned = {node.attr for place, node in nodes(ast.Attribute) if isinstance(node.ctx, ast.Store)}
+        self.assertEqual(own & assigned, set())
+        read = {(place, node.attr) for place, node in nodes(ast.Attribute)}
+        self.assertEqual({(place, name) for place, name in read if name not in own | assigned | set(METHODS)}, set())
+
     def test_imported_names_are_used(self):
         for path, tree in trees():
             used = {node.id for node in ast.walk(tree) if isinstance(node, ast.Name)}
@@ -133,6 +159,31 @@ class TestNodes(unittest.TestCase):
         for place, node in nodes(ast.Call):
             called = node.func.attr if isinstance(node.func, ast.Attribute) else getattr(node.func, "id", "")
             self.assertNotIn(called, ("dict", "copy", "update"), place)
+
+    def test_no_decorators_but_property(self):
+        for place, node in nodes(ast.FunctionDef, ast.ClassDef):
+            self.assertIn([ast.unparse(item) for item in node.decorator_list], ([], ["property"]), place)
+
+    def test_what_an_exit_does(self):
+        exits = [(place, node) for place, node in nodes(ast.FunctionDef) if node.name == "__exit__"]
+        self.assertEqual(len(exits), 1)
+        for place, node in exits:
+            for row in node.body:
+                self.assertIsInstance(row, ast.Assign, place)
+                self.assertIsInstance(row.value, ast.Attribute, place)
+                self.assertEqual([item for item in row.targets if not isinstance(item, ast.Attribute)], [], place)
+
+    def test_raised_errors_are_created_on_the_spot(self):
+        for place, node in nodes(ast.Raise):
+            self.assertIsInstance(node.exc, ast.Call, place)
+            self.assertIsInstance(node.exc.func, ast.Name, place)
+
+    def test_tables_at_module_level_hold_no_lists_and_dicts(self):
+        for path, tree in trees():
+            for node in tree.body:
+                if isinstance(node, ast.Assign):
+                    inner = [item for item in ast.walk(node.value) if item != node.value]
+                    self.assertEqual([item for item in inner if isinstance(item, (ast.List, ast.Dict, ast.Set))], [])
 
     def test_generators_are_iterated_at_once(self):
         made = {node.name for place, node in nodes(ast.FunctionDef)

@@ -6,10 +6,9 @@ from math import factorial
 from random import Random
 from unittest.mock import ANY
 
-from tests.orders import (all_runs, count_orders, crossed_break_rows, great_rows, is_in_order, one_way_rows,
-                          runs_among_permutations, three_pairs_rows, two_hand_rows, wheel_rows)
-from tests.samples import (crossing_rows, fitting_small_rows, g, many_rows, odd_values, random_rows, ring_rows, rows_of,
-                           s)
+from tests.orders import (all_runs, count_orders, crossed_break_rows, great_rows, is_in_order, middle_rows,
+                          one_way_rows, runs_among_permutations, three_pairs_rows, two_hand_rows, wheel_rows)
+from tests.samples import crossing_rows, fitting_small_rows, g, many_rows, odd_values, ring_rows, rows_of, s
 from uprightletters.cuts import is_cut, next_cuts
 from uprightletters.errors import BadNumber, BadRun
 from uprightletters.runs import count_runs, is_run, run_at, run_number, runs
@@ -102,11 +101,8 @@ class TestAgainstTheWords(unittest.TestCase):
             self.check(rows, all_runs(rows))
 
     def test_middle_talks(self):
-        for seed in range(24):
-            rows = random_rows(seed, 2 + seed % 3, 4)
+        for rows in middle_rows() + [ring_rows(3), crossing_rows(3)]:
             self.check(rows, all_runs(rows))
-        self.check(ring_rows(3), all_runs(ring_rows(3)))
-        self.check(crossing_rows(3), all_runs(crossing_rows(3)))
 
     def test_each_order_of_small_talks(self):
         for rows in fitting_small_rows()[::40]:

@@ -2,7 +2,7 @@
 
 from uprightletters.checks import is_index
 from uprightletters.errors import BadCut, BadNumber
-from uprightletters.steps import is_done, open_doings, shifted
+from uprightletters.steps import is_done, letters_under_way, open_doings, shifted
 
 
 def is_cut(talk, value):
@@ -66,8 +66,7 @@ def cut_number(talk, cut):
 def under_way(talk, cut):
     """An ascending tuple of the letters that are sent and not got at a cut."""
     check_cut(talk, cut)
-    sent = [letter for letter in range(talk.many) if is_done(talk, cut, ("send", letter))]
-    return tuple([letter for letter in sent if not is_done(talk, cut, ("get", letter))])
+    return tuple(letters_under_way(talk, cut))
 
 
 def next_cuts(talk, cut):

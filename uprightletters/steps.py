@@ -30,7 +30,17 @@ def can_be_done(talk, cut, doing):
     return number == cut[hand] and (word == "send" or is_done(talk, cut, ("send", letter)))
 
 
+def next_doings(talk, cut):
+    """A list of the next doings of the rows that have one left at a cut."""
+    return [row[count] for row, count in zip(talk.rows, cut) if count < len(row)]
+
+
 def open_doings(talk, cut):
     """An ascending list of the doings that can be done at a cut."""
-    nexts = [row[count] for row, count in zip(talk.rows, cut) if count < len(row)]
-    return sorted([doing for doing in nexts if can_be_done(talk, cut, doing)])
+    return sorted([doing for doing in next_doings(talk, cut) if can_be_done(talk, cut, doing)])
+
+
+def letters_under_way(talk, cut):
+    """An ascending list of the letters that are sent and not got at a cut."""
+    sent = [letter for letter in range(talk.many) if is_done(talk, cut, ("send", letter))]
+    return [letter for letter in sent if not is_done(talk, cut, ("get", letter))]
